@@ -31,6 +31,37 @@ func IsChoice(c api.Choice) bool {
 
 func within(n, low, high int) bool { return n >= low && n <= high }
 
+// Beginning is the state at the beginning.
+func Beginning() api.State {
+	return api.State{
+		Regs:    noughts(registers),
+		Cells:   noughts(cells),
+		Handler: -1,
+		Back:    -1,
+	}
+}
+
+func noughts(size int) string {
+	bytes := []byte{}
+	for i := 0; i < size; i++ {
+		bytes = append(bytes, 0)
+	}
+	return string(bytes)
+}
+
+// Counts tells whether a choice counts at the step of a state that is not
+// halted.
+func Counts(program string, s api.State, c api.Choice) bool {
+	if c.Interrupt || c.Ticks != 0 {
+		return true
+	}
+	// An interrupt that waited may come now: the step's instruction is then
+	// the handler's.
+	s = arrive(s, c)
+	in, found := code.At(program, s.Pc)
+	return c.Input != 0 && found && in.Op == '?'
+}
+
 // Step is the state behind one step.
 func Step(program string, s api.State, c api.Choice) (api.State, api.Errno) {
 	fault := refusal(program, s, c)

@@ -6,6 +6,7 @@ import (
 	"recall/code"
 	"recall/frame"
 	"recall/machine"
+	"recall/record"
 )
 
 // Check tells whether a text is a program (P3).
@@ -19,23 +20,60 @@ func Step(program string, s api.State, c api.Choice) (api.State, api.Errno) {
 // Sum tells the sum of bytes (P5).
 func Sum(s string) int { return frame.Sum(s) }
 
+// minRoom is how many frames there must be room for: a choice needs a state
+// ahead of it.
+const minRoom = 2
+
 // Machine is a machine whose steps are written down.
-type Machine struct{}
+type Machine struct {
+	program string
+	period  int
+	state   api.State
+	written record.Record
+}
 
 // New makes a machine (P6).
-func New(program string, room, period int) (*Machine, api.Errno) { return nil, api.OK }
+func New(program string, room, period int) (*Machine, api.Errno) {
+	fault, _ := code.Check(program)
+	if fault != api.OK {
+		return nil, fault
+	}
+	if room < minRoom || room > api.MaxRoom || period < 1 || period > api.MaxPeriod {
+		return nil, api.ErrArg
+	}
+	x := &Machine{program: program, period: period}
+	x.state = machine.Beginning()
+	x.written = record.New(room)
+	x.Save()
+	return x, api.OK
+}
 
 // Step does a step, and writes down what must be (P6).
-func (x *Machine) Step(c api.Choice) api.Errno { return api.OK }
+func (x *Machine) Step(c api.Choice) api.Errno {
+	behind, fault := machine.Step(x.program, x.state, c)
+	if fault != api.OK {
+		return fault
+	}
+	if machine.Counts(x.program, x.state, c) {
+		x.written = x.written.WithChoice(x.state, c)
+	}
+	x.state = behind
+	// The choice may have brought a frame of the state ahead of it with it:
+	// the period is counted from that one then.
+	if x.state.N-x.written.Last >= x.period {
+		x.Save()
+	}
+	return api.OK
+}
 
 // Save writes the state down (P6).
-func (x *Machine) Save() {}
+func (x *Machine) Save() { x.written = x.written.WithState(x.state) }
 
 // State tells how the machine stands (P6).
-func (x *Machine) State() api.State { return api.State{} }
+func (x *Machine) State() api.State { return x.state }
 
 // Trace tells the frames that are kept (P7).
-func (x *Machine) Trace() string { return "" }
+func (x *Machine) Trace() string { return x.written.Kept }
 
 // Span tells from where to where a trace reaches (P8).
 func Span(trace string) (int, int, api.Errno) { return 0, 0, api.OK }
