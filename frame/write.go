@@ -13,6 +13,19 @@ const (
 	summed  = api.Frame - sumSize
 )
 
+// The bits of what in a state is either so or not.
+const (
+	pending = 1
+	halted  = 2
+)
+
+// numbers is after how many frames their numbers begin again: a frame has two
+// bytes for its own.
+const numbers = 65536
+
+// Next is the number of the frame behind that of a number.
+func Next(number int) int { return (number + 1) % numbers }
+
 // OfState is the frame of a state of a machine.
 func OfState(number int, s api.State) string {
 	body := head(KindState, number, s.N)
@@ -44,14 +57,13 @@ func head(kind, number, n int) string {
 	return text + low(n, 4)
 }
 
-// flags is the byte of what in a state is either so or not.
 func flags(s api.State) int {
 	bits := 0
 	if s.Pending {
-		bits += 1
+		bits += pending
 	}
 	if s.Halted {
-		bits += 2
+		bits += halted
 	}
 	return bits
 }

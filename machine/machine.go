@@ -29,6 +29,12 @@ func IsChoice(c api.Choice) bool {
 	return within(c.Input, 0, byteRange-1) && within(c.Ticks, 0, api.MaxTicks)
 }
 
+// IsCell tells whether there is a cell of that number.
+func IsCell(at int) bool { return within(at, 0, cells-1) }
+
+// Cell is the cell of that number; 0, if there is none.
+func Cell(s api.State, at int) int { return get(s.Cells, at) }
+
 func within(n, low, high int) bool { return n >= low && n <= high }
 
 // Beginning is the state at the beginning.

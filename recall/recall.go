@@ -5,6 +5,7 @@ import (
 	"recall/api"
 	"recall/code"
 	"recall/frame"
+	"recall/history"
 	"recall/machine"
 	"recall/record"
 )
@@ -76,10 +77,27 @@ func (x *Machine) State() api.State { return x.state }
 func (x *Machine) Trace() string { return x.written.Kept }
 
 // Span tells from where to where a trace reaches (P8).
-func Span(trace string) (int, int, api.Errno) { return 0, 0, api.OK }
+func Span(trace string) (int, int, api.Errno) {
+	run := history.Run(trace)
+	return history.Span(run)
+}
 
 // At tells how the machine stood at a time (P9).
-func At(program, trace string, n int) (api.State, api.Errno) { return api.State{}, api.OK }
+func At(program, trace string, n int) (api.State, api.Errno) {
+	fault, _ := code.Check(program)
+	if fault != api.OK {
+		return api.State{}, fault
+	}
+	run := history.Run(trace)
+	return history.At(program, run, n)
+}
 
 // Changed tells when a cell was changed last (P10).
-func Changed(program, trace string, n, cell int) (int, api.Errno) { return 0, api.OK }
+func Changed(program, trace string, n, cell int) (int, api.Errno) {
+	fault, _ := code.Check(program)
+	if fault != api.OK {
+		return 0, fault
+	}
+	run := history.Run(trace)
+	return history.Changed(program, run, n, cell)
+}

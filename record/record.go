@@ -7,10 +7,6 @@ import (
 	"recall/frame"
 )
 
-// numbers is after how many frames their numbers begin again: a frame has two
-// bytes for its own.
-const numbers = 65536
-
 // Record is what has been written down of a machine. It has no slice and no
 // pointer, so that a copy shares nothing with what it was copied from.
 type Record struct {
@@ -59,7 +55,7 @@ func (r Record) withRoom() Record {
 // with is the record with one more frame, which there is room for.
 func (r Record) with(f string) Record {
 	r.Kept = r.Kept + f
-	r.number = (r.number + 1) % numbers
+	r.number = frame.Next(r.number)
 	return r
 }
 
